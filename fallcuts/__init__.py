@@ -1,0 +1,1 @@
+"""Fallcuts: edges that stand on the ground, cut by two by turns."""
