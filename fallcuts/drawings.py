@@ -39,6 +39,19 @@ def without(drawing, cut):
     return drawing[:cut] + drawing[cut + 1:]
 
 
+def in_order(pairs):
+    """Return the tuple of the EDGES between pairs of points, in their order."""
+    # Plain tuples are made of whatever pairs there are.
+    return tuple(sorted([(min(pair), max(pair)) for pair in pairs]))
+
+
+def free_points(edges, many):
+    """Return the list of so many least integers from 1 on that are no points of EDGES."""
+    taken = reached(edges)
+    # EDGES that hang have at most as many points beside the ground as they are.
+    return [point for point in range(1, len(edges) + many + 1) if point not in taken][:many]
+
+
 def need_drawing(thing):
     """Return a DRAWING as it is; refuse anything else."""
     if not isinstance(thing, tuple) or len(thing) > MOST_EDGES:

@@ -61,7 +61,8 @@ class NeedDrawingTest(Refusals):
         self.refuses(BadDrawing, "place", 2, need_drawing, ((0, 1), (2, 3), (3, 2)))
 
     def test_the_edges_of_the_document(self):
-        for drawing in [(), ((0, 1),) * 16, ((0, 0),), ((0, 16),), ((0, 16), (16, 16)), ((0, 1), (0, 1), (1, 1), (1, 1))]:
+        for drawing in [(), ((0, 1),) * 16, ((0, 0),), ((0, 16),), ((0, 16), (16, 16)),
+                        ((0, 1), (0, 1), (1, 1), (1, 1))]:
             self.assertIs(need_drawing(drawing), drawing)
         far = tuple((k, k + 1) for k in range(16))
         self.assertIs(need_drawing(far), far)

@@ -1,8 +1,11 @@
-"""The rules of LANGUAGE.md that can be counted: files, sizes, characters, imports, builtins."""
+"""The rules of LANGUAGE.md that can be counted: files, sizes, characters, imports, names, statements, methods."""
 
 import ast
 import builtins
+import io
 import pathlib
+import re
+import tokenize
 import unittest
 
 PACKAGE = pathlib.Path(__file__).resolve().parent.parent / "fallcuts"
@@ -17,6 +20,25 @@ any all divmod map iter next super property staticmethod classmethod NotImplemen
 KeyError IndexError LookupError ZeroDivisionError ArithmeticError OverflowError RuntimeError NotImplementedError
 AttributeError StopIteration
 """.split())
+METHODS = set("""
+append clear copy count endswith extend find get index insert isalnum isalpha isdigit islower isspace isupper items join
+keys ljust lower lstrip partition pop remove replace reverse rfind rjust rpartition rsplit rstrip setdefault split
+splitlines startswith strip update upper values zfill bit_length sort
+""".split())
+# Words of L17: the first ones stand in no code, the others name nothing.
+BARRED_WORDS = set("""
+type typing typing_extensions enum Enum IntEnum StrEnum Flag IntFlag Generic Protocol ABC ABCMeta namedtuple NamedTuple
+TypedDict TYPE_CHECKING abstractmethod dataclass overload contextmanager
+""".split())
+BARRED_NAMES = set("""
+register mro elements open input law version_info with_traceback add_note attrgetter breakpoint builtins compile
+copyright credits delattr dir eval exec exit gc getattr globals hasattr help id importlib license locals methodcaller
+os quit setattr type vars sys
+""".split())
+STATEMENTS = (
+    ast.Assign, ast.AugAssign, ast.If, ast.While, ast.For, ast.Return, ast.Break, ast.Continue, ast.Pass, ast.Raise,
+    ast.Assert, ast.Delete, ast.Nonlocal, ast.Match, ast.With, ast.Try, ast.Expr, ast.FunctionDef, ast.ClassDef,
+    ast.ImportFrom)
 
 
 class FormTest(unittest.TestCase):
@@ -67,6 +89,99 @@ class FormTest(unittest.TestCase):
             self.assertNotIsInstance(node.value, (float, complex), name)
             if isinstance(node.value, str):
                 self.assertNotIn("%", node.value, name)
+
+    def test_only_allowed_statements_stand_in_a_file(self):
+        for name, node in self.nodes(ast.stmt):
+            self.assertIsInstance(node, STATEMENTS, (name, node.lineno))
+        for name, tree in self.trees.items():
+            for node in tree.body:
+                self.assertIsInstance(node, (ast.Expr, ast.ImportFrom, ast.FunctionDef, ast.ClassDef, ast.Assign), name)
+                if isinstance(node, ast.Expr):
+                    self.assertIs(node, tree.body[0])
+        for name, node in self.nodes(ast.FunctionDef):
+            signs = [getattr(sign, "id", getattr(sign, "attr", "")) for sign in node.decorator_list]
+            self.assertLessEqual(set(signs), {"property", "setter", "staticmethod", "classmethod"}, name)
+
+    def test_no_two_files_import_from_each_other_and_names_come_from_their_own_file(self):
+        above = {name: [] for name in self.trees}
+        for name, node in self.nodes(ast.ImportFrom):
+            if node.module.startswith("fallcuts."):
+                origin = node.module.split(".")[1] + ".py"
+                above[name].append(origin)
+                self.assertLessEqual({alias.name for alias in node.names}, self.defined(origin), name)
+                self.assertEqual([alias.asname for alias in node.names if alias.asname], [])
+        while above:
+            first = [name for name in above if not set(above[name]) & set(above)]
+            self.assertTrue(first, above)
+            above = {name: above[name] for name in above if name not in first}
+
+    def defined(self, name):
+        """Return the set of the names that a file defines."""
+        body = self.trees[name].body
+        values = [target.id for node in body if isinstance(node, ast.Assign) for target in node.targets]
+        return set(values) | {node.name for node in body if isinstance(node, (ast.FunctionDef, ast.ClassDef))}
+
+    def test_what_is_imported_or_defined_is_used_and_no_name_hides_another_one(self):
+        for name, tree in self.trees.items():
+            imported = [alias.name for node in tree.body if isinstance(node, ast.ImportFrom) for alias in node.names]
+            nodes = list(ast.walk(tree))
+            read = {node.id for node in nodes if isinstance(node, ast.Name) and isinstance(node.ctx, ast.Load)}
+            bound = [node.id for node in nodes if isinstance(node, ast.Name) and isinstance(node.ctx, ast.Store)]
+            bound += [node.arg for node in nodes if isinstance(node, ast.arg)]
+            functions = {node.name for node in tree.body if isinstance(node, (ast.FunctionDef, ast.ClassDef))}
+            with self.subTest(name):
+                self.assertLessEqual(set(imported), read)
+                self.assertEqual(set(bound) & (set(imported) | functions | set(dir(builtins)) | BARRED_NAMES), set())
+                self.assertEqual(len(imported), len(set(imported) - self.defined(name)))
+                self.assertEqual([word for word in bound if not re.fullmatch("_|_?[A-Za-z][A-Za-z0-9_]*", word)], [])
+
+    def test_no_barred_word_stands_outside_comments_and_docstrings(self):
+        for name, text in self.texts.items():
+            for token in tokenize.generate_tokens(io.StringIO(text).readline):
+                string = token.type == tokenize.STRING and not token.string.startswith('"""')
+                if string or token.type == tokenize.NAME:
+                    self.assertEqual(set(re.findall("[A-Za-z_]+", token.string)) & BARRED_WORDS, set(), name)
+
+    def test_only_methods_of_the_list_are_called(self):
+        own = {node.name for _, node in self.nodes(ast.FunctionDef)}
+        for name, node in self.nodes(ast.Call):
+            if isinstance(node.func, ast.Attribute):
+                self.assertIn(node.func.attr, METHODS | own, (name, node.lineno))
+
+    def test_is_stands_with_none_true_and_false(self):
+        for name, node in self.nodes(ast.Compare):
+            for sign, other in zip(node.ops, node.comparators):
+                if isinstance(sign, (ast.Is, ast.IsNot)):
+                    self.assertIn(getattr(other, "value", 0), (None, True, False), (name, node.lineno))
+
+    def test_only_own_errors_are_caught_and_raised(self):
+        own = self.defined("errors.py")
+        for name, node in self.nodes(ast.ExceptHandler):
+            self.assertIn(node.type.id, own, (name, node.lineno))
+        for name, node in self.nodes(ast.Raise):
+            if node.exc:
+                self.assertIn(node.exc.func.id, own | {"TypeError"}, (name, node.lineno))
+
+    def test_signs_in_strings(self):
+        for name, text in self.texts.items():
+            self.assertEqual(text.count("\\"), 0, name)
+
+    def test_sets_are_not_iterated_and_exponents_are_written_out(self):
+        for name, node in self.nodes((ast.For, ast.comprehension)):
+            self.assertNotIsInstance(node.iter, (ast.Set, ast.SetComp), name)
+            self.assertNotIn(getattr(getattr(node.iter, "func", None), "id", ""), ("set", "frozenset"), name)
+        for name, node in self.nodes(ast.BinOp):
+            if isinstance(node.op, ast.Pow):
+                self.assertIsInstance(node.right, ast.Constant, (name, node.lineno))
+
+    def test_lists_and_dicts_of_a_file_are_only_read(self):
+        for name, tree in self.trees.items():
+            kept = {node.targets[0].id for node in tree.body
+                    if isinstance(node, ast.Assign) and isinstance(node.value, (ast.Dict, ast.List))}
+            for node in ast.walk(tree):
+                if isinstance(node, ast.Call):
+                    passed = {part.id for part in node.args if isinstance(part, ast.Name)}
+                    self.assertEqual(passed & kept, set(), (name, node.lineno))
 
 
 if __name__ == "__main__":

@@ -1,12 +1,22 @@
 """Points [1] and [2] for all functions: names, arguments left as they were, equal results; the examples."""
 
 import copy
+import inspect
 import unittest
 
+from fallcuts.companies import (
+    check_company, company_paper, company_worth, is_won, moved, need_company, winning_moves)
 from fallcuts.drawings import behind, falling, need_drawing, points_of
-from fallcuts.errors import BadDrawing, BadNumber, BadPoint, FallError
+from fallcuts.errors import (
+    BadCompany, BadDrawing, BadMove, BadNumber, BadPaper, BadPoint, BadStep, FallError)
+from fallcuts.likes import alike_paper, are_alike, check_alike
 from fallcuts.rings import are_tied, blocks, bridges
-from tests.samples import EXAMPLE, WRONG_DRAWINGS, Refusals
+from fallcuts.steps import all_steps, check_worth, is_step, stepped, worth_paper
+from fallcuts.worths import carryless, worth, worths_behind
+from tests.samples import EXAMPLE, WRONG_COMPANIES, WRONG_DRAWINGS, Refusals
+
+STALK = ((0, 1), (1, 4))
+COMPANY = (EXAMPLE, STALK, ((0, 1), (0, 2), (0, 2)))
 
 LISTED = {
     "fallcuts.drawings": [
@@ -20,8 +30,60 @@ LISTED = {
         (blocks, {"drawing": EXAMPLE}),
         (bridges, {"drawing": EXAMPLE}),
     ],
+    "fallcuts.worths": [
+        (carryless, {"numbers": (3, 5)}),
+        (worth, {"drawing": EXAMPLE}),
+        (worths_behind, {"drawing": EXAMPLE}),
+    ],
+    "fallcuts.steps": [
+        (is_step, {"drawing": EXAMPLE, "value": ("join", 1, 2)}),
+        (stepped, {"drawing": EXAMPLE, "step": ("join", 1, 2)}),
+        (all_steps, {"drawing": EXAMPLE}),
+        (worth_paper, {"drawing": EXAMPLE}),
+        (check_worth, {"drawing": EXAMPLE, "paper": worth_paper(EXAMPLE)}),
+    ],
+    "fallcuts.companies": [
+        (need_company, {"thing": COMPANY}),
+        (moved, {"company": COMPANY, "move": (1, 0)}),
+        (company_worth, {"company": COMPANY}),
+        (is_won, {"company": COMPANY}),
+        (winning_moves, {"company": COMPANY}),
+        (company_paper, {"company": COMPANY}),
+        (check_company, {"company": COMPANY, "paper": company_paper(COMPANY)}),
+    ],
+    "fallcuts.likes": [
+        (are_alike, {"one": EXAMPLE, "other": STALK}),
+        (alike_paper, {"one": EXAMPLE, "other": STALK}),
+        (check_alike, {"one": EXAMPLE, "other": STALK, "paper": alike_paper(EXAMPLE, STALK)}),
+    ],
 }
 CALLS = [row for rows in LISTED.values() for row in rows]
+
+# For each parameter its error, the attribute, and pairs of a wrong value and what is told of it.
+ERRORS = {
+    "drawing": (BadDrawing, "place", WRONG_DRAWINGS),
+    "company": (BadCompany, "number", WRONG_COMPANIES),
+    "numbers": (BadNumber, "given", [(wrong, wrong) for wrong in (True, None, 3, "3", (True,), (3, -5), (1, None))]),
+    "cut": (BadNumber, "given", [(wrong, wrong) for wrong in (True, None, -1, 4, "0", (0,))]),
+    "point": (BadPoint, "given", [(wrong, wrong) for wrong in (True, None, -1, 4, "0", (0,))]),
+    "step": (BadStep, "given", [(wrong, wrong) for wrong in (True, None, "join", (), ("join", 2, 1), ("loop", True))]),
+    "move": (BadMove, "given", [(wrong, wrong) for wrong in (True, None, 0, (), (0, 4), (1, True), (3, 0))]),
+    "paper": (BadPaper, "part", [(wrong, "form") for wrong in (True, None, 0, "lost", (0,) * 101)]),
+}
+ERRORS.update({"one": ERRORS["drawing"], "other": ERRORS["drawing"], "second": ERRORS["point"]})
+
+
+def error_of(call, name):
+    """Return the error of a parameter, its attribute, and wrong values; a value of any kind has none."""
+    if name == "thing":
+        name = {need_drawing: "drawing", need_company: "company"}[call]
+    return ERRORS.get(name)
+
+
+def parameters():
+    """Return all calls with each of their parameters that has an error, and what it is."""
+    return [(call, named, name, error_of(call, name)) for call, named in CALLS for name in named if name != "value"]
+
 
 # Values that could be changed, none of which is an argument of any of these calls.
 CHANGEABLE = [[], [(0, 1), [1, 2]], {"a": [1]}, {1, 2}, ([0, 1],), ((0, 1), [1, [2]]), ((0, 1), {1: [2]})]
@@ -34,6 +96,10 @@ class CallsTest(Refusals):
             for call, _ in rows:
                 self.assertEqual(call.__module__, module)
 
+    def test_the_names_of_the_parameters(self):
+        for call, named in CALLS:
+            self.assertEqual(list(inspect.signature(call).parameters), list(named), call)
+
     def test_arguments_by_position_and_by_name(self):
         for call, named in CALLS:
             with self.subTest(call=call):
@@ -43,14 +109,27 @@ class CallsTest(Refusals):
                 first, *others = named
                 self.assertEqual(call(named[first], **{name: named[name] for name in others}), expected)
 
+    def told(self, call, named):
+        """Return the class of the error that a call raises, and what it was made with."""
+        with self.assertRaises(FallError) as caught:
+            call(**named)
+        return type(caught.exception), list(vars(caught.exception).items())
+
     def test_wrong_arguments_by_name(self):
-        for call, named in CALLS:
-            with self.subTest(call=call):
-                first, *others = named
-                self.refuses(BadDrawing, "place", 0, call, **{**named, first: ((0, 17),)})
-                for name in others:
-                    kind = BadNumber if name == "cut" else BadPoint
-                    self.refuses(kind, "given", True, call, **{**named, name: True})
+        for call, named, name, (kind, attribute, wrongs) in parameters():
+            for wrong, known in wrongs:
+                with self.subTest(call=call, name=name, wrong=wrong):
+                    self.assertEqual(self.told(call, {**named, name: wrong}), (kind, [(attribute, known)]))
+
+    def test_of_two_wrong_arguments_the_first_one_is_told(self):
+        for call, named, name, (kind, attribute, wrongs) in parameters():
+            behind_it = list(named)[list(named).index(name) + 1:]
+            for other in behind_it:
+                for wrong, known in wrongs:
+                    for more in (None, True, [], ((0, 1), (2, 3)), (0,) * 101):
+                        with self.subTest(call=call, name=name, other=other, wrong=wrong, more=more):
+                            wrong_both = {**named, name: wrong, other: more}
+                            self.assertEqual(self.told(call, wrong_both), (kind, [(attribute, known)]))
 
     def test_equal_calls_return_equal_results(self):
         for call, named in CALLS:
@@ -59,22 +138,17 @@ class CallsTest(Refusals):
                 self.assertEqual(call(**named), call(**copy.deepcopy(named)))
 
     def test_the_same_errors_are_told_again(self):
-        for call, named in CALLS:
-            others = list(named.values())[1:]
-            for wrong, place in WRONG_DRAWINGS:
-                with self.subTest(call=call, wrong=wrong):
-                    self.assertEqual([self.place_told(call, wrong, others) for _ in range(2)], [place, place])
-
-    def place_told(self, call, wrong, others):
-        with self.assertRaises(BadDrawing) as caught:
-            call(wrong, *others)
-        return caught.exception.place
+        for call, named, name, (_, _, wrongs) in parameters():
+            for wrong, _ in wrongs:
+                with self.subTest(call=call, name=name, wrong=wrong):
+                    given = {**named, name: wrong}
+                    self.assertEqual(self.told(call, given), self.told(call, given))
 
     def test_a_wrong_call_does_not_change_the_next_one(self):
-        for call, named in CALLS:
-            with self.subTest(call=call):
+        for call, named, name, _ in parameters():
+            with self.subTest(call=call, name=name):
                 expected = call(**named)
-                self.assertRaises(BadDrawing, call, [EXAMPLE], *list(named.values())[1:])
+                self.assertRaises(FallError, call, **{**named, name: [EXAMPLE]})
                 self.assertEqual(call(**named), expected)
 
     def test_arguments_stay_as_they_were(self):
@@ -85,13 +159,18 @@ class CallsTest(Refusals):
                 self.assertEqual(named, kept)
 
     def test_wrong_arguments_stay_as_they_were(self):
-        for call, named in CALLS:
-            for name in named:
-                for thing in CHANGEABLE:
-                    with self.subTest(call=call, name=name, thing=thing):
-                        kept = copy.deepcopy(thing)
-                        self.assertRaises(FallError, call, **{**named, name: thing})
-                        self.assertEqual(thing, kept)
+        for call, named, name, _ in parameters():
+            for thing in CHANGEABLE:
+                with self.subTest(call=call, name=name, thing=thing):
+                    kept = copy.deepcopy(thing)
+                    self.assertRaises(FallError, call, **{**named, name: thing})
+                    self.assertEqual(thing, kept)
+
+    def test_values_of_any_kind_stay_as_they_were(self):
+        for thing in CHANGEABLE:
+            kept = copy.deepcopy(thing)
+            self.assertIs(is_step(EXAMPLE, thing), False)
+            self.assertEqual(thing, kept)
 
     def test_later_changes_of_what_was_passed_have_no_effect(self):
         rows = [0, 1]
@@ -112,6 +191,28 @@ class ExamplesTest(Refusals):
     def test_rings(self):
         d = ((0, 1), (1, 2), (1, 3), (2, 3))
         self.assertEqual([are_tied(d, 2, 3), blocks(d), bridges(d)], [True, ((0,), (1, 2, 3)), (0,)])
+
+    def test_worths(self):
+        d = ((0, 1), (1, 2), (1, 3), (2, 3))
+        self.assertEqual([worth(d), worths_behind(d), carryless((3, 5))], [2, (0, 3, 3, 1), 6])
+
+    def test_steps(self):
+        d = ((0, 1), (1, 2), (1, 3), (2, 3))
+        self.assertEqual(
+            [all_steps(d), stepped(d, ("join", 1, 2)), check_worth(d, worth_paper(d))],
+            [(("join", 1, 2), ("join", 1, 3), ("join", 2, 3)), ((0, 1), (1, 1), (1, 3), (1, 3)), 2])
+        self.tells(BadPaper, "part", 0, check_worth, ((0, 1), (0, 2)), (("loop", 0),))
+
+    def test_companies(self):
+        d = ((0, 1), (1, 2), (1, 3), (2, 3))
+        self.assertEqual(
+            [is_won((d, ((0, 1), (1, 4)))), winning_moves((d,)), company_paper((((0, 1),),))],
+            [False, ((0, 0),), ("won", (0, 0), ((),))])
+
+    def test_likes(self):
+        d = ((0, 1), (1, 2), (1, 3), (2, 3))
+        self.assertEqual(
+            [are_alike(d, ((0, 1), (1, 2))), check_alike(((0, 1),), (), ("apart", 0))], [True, "apart"])
 
 
 if __name__ == "__main__":
