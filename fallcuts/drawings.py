@@ -66,6 +66,13 @@ def need_drawing(thing):
     return thing
 
 
+def need_small(number):
+    """Return an integer from 0 to 16, as many as EDGES or a WORTH can be, as it is; refuse anything else."""
+    if not is_whole(number) or not 0 <= number <= MOST_EDGES:
+        raise BadNumber(number)
+    return number
+
+
 def need_cut(drawing, cut):
     """Return a CUT of a DRAWING as it is; refuse anything else."""
     if not is_whole(cut) or not 0 <= cut < len(drawing):

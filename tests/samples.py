@@ -1,5 +1,6 @@
 """What several tests use: drawings, wrong values, and the document's words taken literally."""
 
+import collections
 import functools
 import itertools
 import random
@@ -7,6 +8,9 @@ import unittest
 from unittest import mock
 
 EXAMPLE = ((0, 1), (1, 2), (1, 3), (2, 3))
+
+# Tuples of a class of their own.
+Edge = collections.namedtuple("Edge", "low high")
 
 DRAWINGS = {
     "no edges": (),
@@ -145,6 +149,10 @@ class Refusals(unittest.TestCase):
             call(*given)
         told = getattr(caught.exception, name)
         self.assertEqual((type(caught.exception), told, type(told)), (kind, thing, type(thing)))
+
+
+def stalk(many):
+    return tuple((k, k + 1) for k in range(many))
 
 
 def small_drawings():

@@ -1,6 +1,5 @@
 """Points [4], [5] and [9]: fallcuts.companies."""
 
-import collections
 import itertools
 import unittest
 
@@ -10,10 +9,8 @@ from fallcuts.errors import BadCompany, BadMove, BadPaper
 from fallcuts.steps import check_worth, worth_paper
 from fallcuts.worths import carryless
 from tests.samples import (
-    COMPANIES, DRAWINGS, EQUAL, EXAMPLE, GREAT_DRAWINGS, NO_INTEGERS, WRONG_COMPANIES, Refusals, after_move, all_moves,
-    all_samples, great_drawings, small_drawings, won_by_moves, worth_by_cuts)
-
-Edge = collections.namedtuple("Edge", "low high")
+    COMPANIES, DRAWINGS, EQUAL, EXAMPLE, GREAT_DRAWINGS, NO_INTEGERS, WRONG_COMPANIES, Edge, Refusals, after_move,
+    all_moves, all_samples, great_drawings, small_drawings, won_by_moves, worth_by_cuts)
 
 
 def nested(depth, inner):

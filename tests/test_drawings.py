@@ -1,14 +1,11 @@
 """Points [3] and [4], as far as drawings and cuts go: fallcuts.drawings."""
 
-import collections
 import itertools
 import unittest
 
 from fallcuts.drawings import behind, falling, need_drawing, points_of
 from fallcuts.errors import BadDrawing, BadNumber
-from tests.samples import DRAWINGS, EXAMPLE, NO_INTEGERS, WRONG_DRAWINGS, Refusals, all_samples, hanging
-
-Edge = collections.namedtuple("Edge", "low high")
+from tests.samples import DRAWINGS, EXAMPLE, NO_INTEGERS, WRONG_DRAWINGS, Edge, Refusals, all_samples, hanging
 
 
 class NeedDrawingTest(Refusals):

@@ -4,12 +4,15 @@ import copy
 import inspect
 import unittest
 
+from fallcuts.builds import lifted, together, upon
 from fallcuts.companies import (
     check_company, company_paper, company_worth, is_won, moved, need_company, winning_moves)
 from fallcuts.drawings import behind, falling, need_drawing, points_of
 from fallcuts.errors import (
-    BadCompany, BadDrawing, BadMove, BadNumber, BadPaper, BadPoint, BadStep, FallError)
+    BadCompany, BadDrawing, BadLog, BadMove, BadNumber, BadPaper, BadPoint, BadStep, FallError)
 from fallcuts.likes import alike_paper, are_alike, check_alike
+from fallcuts.places import fitting_places, places, places_to, with_edge
+from fallcuts.plays import best_play, is_play, longest, shortest
 from fallcuts.rings import are_tied, blocks, bridges
 from fallcuts.steps import all_steps, check_worth, is_step, stepped, worth_paper
 from fallcuts.worths import carryless, worth, worths_behind
@@ -56,6 +59,23 @@ LISTED = {
         (alike_paper, {"one": EXAMPLE, "other": STALK}),
         (check_alike, {"one": EXAMPLE, "other": STALK, "paper": alike_paper(EXAMPLE, STALK)}),
     ],
+    "fallcuts.plays": [
+        (is_play, {"company": COMPANY, "value": ((0, 0), (1, 0), (2, 0), (2, 0), (2, 0))}),
+        (longest, {"company": COMPANY}),
+        (shortest, {"company": COMPANY}),
+        (best_play, {"company": COMPANY}),
+    ],
+    "fallcuts.builds": [
+        (together, {"one": EXAMPLE, "other": STALK}),
+        (upon, {"one": EXAMPLE, "point": 3, "other": STALK}),
+        (lifted, {"drawing": EXAMPLE, "many": 3}),
+    ],
+    "fallcuts.places": [
+        (places, {"drawing": EXAMPLE}),
+        (with_edge, {"drawing": EXAMPLE, "place": (1, 4)}),
+        (places_to, {"drawing": EXAMPLE, "number": 3}),
+        (fitting_places, {"drawing": EXAMPLE, "log": (((STALK,), False), ((EXAMPLE, ((0, 1),)), True))}),
+    ],
 }
 CALLS = [row for rows in LISTED.values() for row in rows]
 
@@ -69,8 +89,12 @@ ERRORS = {
     "step": (BadStep, "given", [(wrong, wrong) for wrong in (True, None, "join", (), ("join", 2, 1), ("loop", True))]),
     "move": (BadMove, "given", [(wrong, wrong) for wrong in (True, None, 0, (), (0, 4), (1, True), (3, 0))]),
     "paper": (BadPaper, "part", [(wrong, "form") for wrong in (True, None, 0, "lost", (0,) * 101)]),
+    "many": (BadNumber, "given", [(wrong, wrong) for wrong in (True, None, -1, 17, "0", (0,))]),
+    "place": (BadNumber, "given", [(wrong, wrong) for wrong in (True, None, 0, (), (1, 0), (4, 4), (0, True), "01")]),
+    "log": (BadLog, "number", [(None, None), ((True,), 0), ((((STALK,), True), (STALK, True)), 1), ((0,) * 13, None)]),
 }
-ERRORS.update({"one": ERRORS["drawing"], "other": ERRORS["drawing"], "second": ERRORS["point"]})
+ERRORS.update({
+    "one": ERRORS["drawing"], "other": ERRORS["drawing"], "second": ERRORS["point"], "number": ERRORS["many"]})
 
 
 def error_of(call, name):
@@ -170,6 +194,7 @@ class CallsTest(Refusals):
         for thing in CHANGEABLE:
             kept = copy.deepcopy(thing)
             self.assertIs(is_step(EXAMPLE, thing), False)
+            self.assertIs(is_play(COMPANY, thing), False)
             self.assertEqual(thing, kept)
 
     def test_later_changes_of_what_was_passed_have_no_effect(self):
@@ -213,6 +238,22 @@ class ExamplesTest(Refusals):
         d = ((0, 1), (1, 2), (1, 3), (2, 3))
         self.assertEqual(
             [are_alike(d, ((0, 1), (1, 2))), check_alike(((0, 1),), (), ("apart", 0))], [True, "apart"])
+
+    def test_plays(self):
+        c = (((0, 1), (0, 2)), ((0, 5), (5, 6)))
+        self.assertEqual([longest(c), shortest(c), best_play(c)], [4, 3, ((1, 0), (0, 0), (0, 0))])
+
+    def test_builds(self):
+        f = ((0, 1), (0, 2))
+        self.assertEqual(
+            [lifted(f, 1), together(f, ((0, 1),)), upon(f, 2, ((0, 1),))],
+            [((0, 1), (1, 2), (1, 3)), ((0, 1), (0, 2), (0, 3)), ((0, 1), (0, 2), (2, 3))])
+
+    def test_places(self):
+        log = (((((0, 1),),), False), ((((0, 5), (5, 6)),), True))
+        self.assertEqual(
+            [places(((0, 1),)), places_to(((0, 1),), 2), fitting_places(((0, 1),), log)],
+            [((0, 0), (0, 1), (0, 2), (1, 1), (1, 2)), ((1, 1), (1, 2)), ((1, 1), (1, 2))])
 
 
 if __name__ == "__main__":

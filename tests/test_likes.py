@@ -9,13 +9,9 @@ from fallcuts.steps import check_worth, worth_paper
 from fallcuts.worths import worth
 from tests.samples import (
     DRAWINGS, EQUAL, EXAMPLE, GREAT_DRAWINGS, NO_INTEGERS, WRONG_DRAWINGS, Refusals, great_drawings, greater_drawings,
-    small_drawings, won_by_moves, worth_by_cuts)
+    small_drawings, stalk, won_by_moves, worth_by_cuts)
 
 STALK = ((0, 1), (1, 2))
-
-
-def stalk(many):
-    return tuple((k, k + 1) for k in range(many))
 
 
 def pairs():
