@@ -22,6 +22,11 @@ def need_company(thing):
     return thing
 
 
+def edges_in(company):
+    """Return how many EDGES a COMPANY has in all."""
+    return sum([len(drawing) for drawing in company])
+
+
 def is_move(company, value):
     """Tell whether any value is a MOVE in a COMPANY."""
     if not isinstance(value, tuple) or len(value) != 2 or not all([is_whole(part) for part in value]):

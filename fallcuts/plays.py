@@ -1,6 +1,6 @@
 """PLAYS: rows of MOVES behind which no EDGE is left, the longest, the shortest and the BEST one."""
 
-from fallcuts.companies import is_move, moved, need_company, winning_moves
+from fallcuts.companies import edges_in, is_move, moved, need_company, winning_moves
 from fallcuts.drawings import GROUND
 
 
@@ -13,13 +13,13 @@ def is_play(company, value):
         if not is_move(left, move):
             return False
         left = moved(left, move)
-    return longest(left) == 0
+    return edges_in(left) == 0
 
 
 def longest(company):
     """Return the greatest number of MOVES of a PLAY of a COMPANY."""
     # As long as EDGES are left, one of them can be cut so that no other one falls.
-    return sum([len(drawing) for drawing in need_company(company)])
+    return edges_in(need_company(company))
 
 
 def shortest(company):
@@ -41,7 +41,7 @@ def best_play(company):
     """Return the BEST PLAY of a COMPANY."""
     moves = []
     left = need_company(company)
-    while longest(left) > 0:
+    while edges_in(left) > 0:
         moves.append(best_move(left))
         left = moved(left, moves[-1])
     return tuple(moves)

@@ -23,7 +23,16 @@ AttributeError StopIteration
 METHODS = set("""
 append clear copy count endswith extend find get index insert isalnum isalpha isdigit islower isspace isupper items join
 keys ljust lower lstrip partition pop remove replace reverse rfind rjust rpartition rsplit rstrip setdefault split
-splitlines startswith strip update upper values zfill bit_length sort
+splitlines startswith strip update upper values zfill bit_length title capitalize swapcase casefold center expandtabs
+removeprefix removesuffix rindex isascii isdecimal isnumeric istitle isidentifier isprintable
+""".split())
+# The double-underscore methods of L5 that the package may need.
+DOUBLE = {"__init__", "__eq__", "__repr__", "__str__", "__len__", "__enter__", "__exit__", "__call__", "__iter__"}
+# Names of L26 and L17 that no attribute has.
+BARRED_ATTRIBUTES = set("""
+items keys values pop update append clear extend insert remove reverse setdefault sort args encode decode hex fromhex
+format format_map mro register elements open input law version_info with_traceback add_note as_integer_ratio bit_count
+conjugate from_bytes is_integer to_bytes
 """.split())
 # Words of L17: the first ones stand in no code, the others name nothing.
 BARRED_WORDS = set("""
@@ -67,7 +76,8 @@ class FormTest(unittest.TestCase):
         for name, node in self.nodes(ast.FunctionDef):
             with self.subTest(name, function=node.name):
                 self.assertLessEqual(node.end_lineno - node.lineno + 1, 40)
-                self.assertTrue(node.name == "__init__" or ast.get_docstring(node))
+                # In the rows of an __exit__ no docstring may stand.
+                self.assertTrue(node.name in DOUBLE or ast.get_docstring(node))
 
     def test_imports_come_from_the_package_or_the_library(self):
         self.assertEqual(self.nodes(ast.Import), [])
@@ -164,7 +174,42 @@ class FormTest(unittest.TestCase):
 
     def test_signs_in_strings(self):
         for name, text in self.texts.items():
-            self.assertEqual(text.count("\\"), 0, name)
+            self.assertEqual(text.count("\\"), text.count("\\n"), name)
+
+    def test_double_underscore_methods(self):
+        for name, node in self.nodes(ast.FunctionDef):
+            if node.name.startswith("__"):
+                self.assertIn(node.name, DOUBLE, name)
+            if node.name == "__exit__":
+                self.assertEqual([part.arg for part in node.args.args[1:]], ["kind", "value", "trace"])
+                for row in node.body:
+                    self.assertIsInstance(row, ast.Assign, name)
+                    self.assertIsInstance(row.targets[0], ast.Attribute, name)
+                    self.assertIsInstance(row.value, ast.Attribute, name)
+            if node.name in ("__eq__", "__len__"):
+                self.assertEqual([kind for kind in map(type, node.body) if kind is not ast.Expr], [ast.Return], name)
+            if node.name == "__len__":
+                self.assertEqual(node.body[-1].value.func.id, "len", name)
+
+    def test_beside_an_own_eq_nothing_is_sorted_in_place_or_told_by_a_generator(self):
+        self.assertEqual(self.nodes((ast.GeneratorExp, ast.Yield, ast.YieldFrom)), [])
+        for name, node in self.nodes(ast.Attribute):
+            self.assertNotEqual(node.attr, "sort", (name, node.lineno))
+
+    def test_attributes_are_assigned_by_a_class_and_are_no_methods(self):
+        assigned = {node.attr for _, node in self.nodes(ast.Attribute) if isinstance(node.ctx, ast.Store)}
+        own = {part.name for _, node in self.nodes(ast.ClassDef) for part in node.body
+               if isinstance(part, ast.FunctionDef)}
+        self.assertEqual(assigned & own, set())
+        self.assertEqual(assigned & BARRED_ATTRIBUTES, set())
+        for name, node in self.nodes(ast.Attribute):
+            self.assertIn(node.attr, assigned | own | METHODS, (name, node.lineno))
+
+    def test_properties_only_return(self):
+        for name, node in self.nodes(ast.FunctionDef):
+            if node.decorator_list:
+                self.assertEqual([sign.id for sign in node.decorator_list], ["property"], name)
+                self.assertEqual([type(row) for row in node.body], [ast.Expr, ast.Return], name)
 
     def test_sets_are_not_iterated_and_exponents_are_written_out(self):
         for name, node in self.nodes((ast.For, ast.comprehension)):
